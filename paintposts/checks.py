@@ -1,0 +1,42 @@
+"""Checks of arguments, and the reading of integers, for all modules of the package."""
+
+from paintposts.errors import InvalidCount, InvalidPost
+
+# Two factors, because the language subset has no exponent above 64.
+MAX_ARGUMENT = 10 ** 40 * 10 ** 40
+
+# No text of the document has an integer with more digits than these.
+MAX_DIGITS = 80
+
+
+def is_integer(value):
+    """True if any value is an integer; True and False are none."""
+    return isinstance(value, int) and not isinstance(value, bool)
+
+
+def is_between(value, least, most):
+    """True if any value is an integer from least to most."""
+    return is_integer(value) and least <= value <= most
+
+
+def check_post(value):
+    """Raises InvalidPost for any value that is no post."""
+    if not is_between(value, -MAX_ARGUMENT, MAX_ARGUMENT):
+        raise InvalidPost(value)
+
+
+def check_count(value):
+    """Raises InvalidCount for any value that is no count."""
+    if not is_between(value, 0, MAX_ARGUMENT):
+        raise InvalidCount(value)
+
+
+def integer_of(word):
+    """The integer that a string writes, or None if it is not the text of one."""
+    digits = word.removeprefix("-")
+    # The length comes before int(..), which fails for thousands of digits.
+    if len(digits) > MAX_DIGITS or not digits.isascii() or not digits.isdigit():
+        return None
+    number = int(word)
+    # Each integer has one text only: this rejects leading zeros and "-0".
+    return number if str(number) == word else None
