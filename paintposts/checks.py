@@ -1,6 +1,6 @@
 """Checks of arguments, and the reading of integers, for all modules of the package."""
 
-from paintposts.errors import InvalidCount, InvalidPost
+from paintposts.errors import InvalidCount, InvalidDay, InvalidPost
 
 # Two factors, because the language subset has no exponent above 64.
 MAX_ARGUMENT = 10 ** 40 * 10 ** 40
@@ -25,8 +25,20 @@ def check_post(value):
         raise InvalidPost(value)
 
 
+def check_day(value):
+    """Raises InvalidDay for any value that is no day."""
+    if not is_between(value, 0, MAX_ARGUMENT):
+        raise InvalidDay(value)
+
+
+def check_day_or_none(value):
+    """Raises InvalidDay for any value that is neither a day nor None, which means "after all days"."""
+    if value is not None:
+        check_day(value)
+
+
 def check_count(value):
-    """Raises InvalidCount for any value that is no count."""
+    """Raises InvalidCount for any value that is no count and no index."""
     if not is_between(value, 0, MAX_ARGUMENT):
         raise InvalidCount(value)
 

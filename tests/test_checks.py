@@ -1,7 +1,7 @@
 import unittest
 
-from paintposts.checks import check_count, check_post, integer_of, is_between, is_integer
-from paintposts.errors import InvalidCount, InvalidPost
+from paintposts.checks import check_count, check_day, check_day_or_none, check_post, integer_of, is_between, is_integer
+from paintposts.errors import InvalidCount, InvalidDay, InvalidPost
 from tests.samples import BIG, NO_INTEGERS
 
 
@@ -16,17 +16,25 @@ class ChecksTest(unittest.TestCase):
             self.assertIs(is_integer(value), False)
             self.assertIs(is_between(value, -BIG, BIG), False)
 
-    def test_posts_and_counts(self):
+    def test_posts_days_and_counts(self):
         for value in (0, 1, BIG):
             self.assertIsNone(check_post(value))
             self.assertIsNone(check_post(-value))
             self.assertIsNone(check_count(value))
+            self.assertIsNone(check_day(value))
+            self.assertIsNone(check_day_or_none(value))
+        self.assertIsNone(check_day_or_none(None))
         for value in NO_INTEGERS + [BIG + 1, -BIG - 1]:
             with self.assertRaises(InvalidPost):
                 check_post(value)
         for value in NO_INTEGERS + [BIG + 1, -1]:
             with self.assertRaises(InvalidCount):
                 check_count(value)
+            with self.assertRaises(InvalidDay):
+                check_day(value)
+            if value is not None:
+                with self.assertRaises(InvalidDay):
+                    check_day_or_none(value)
 
     def test_words_of_integers(self):
         for number in (0, 7, 10, -1, -10, BIG - 1, 1 - BIG, 10 ** 79):
