@@ -1,6 +1,6 @@
 """Checks of arguments, and the reading of integers, for all modules of the package."""
 
-from paintposts.errors import InvalidCount, InvalidDay, InvalidPost
+from paintposts.errors import InvalidCount, InvalidDay, InvalidPost, UnknownName
 
 # Two factors, because the language subset has no exponent above 64.
 MAX_ARGUMENT = 10 ** 40 * 10 ** 40
@@ -41,6 +41,12 @@ def check_count(value):
     """Raises InvalidCount for any value that is no count and no index."""
     if not is_between(value, 0, MAX_ARGUMENT):
         raise InvalidCount(value)
+
+
+def check_name(fence, value):
+    """Raises UnknownName for any value that is not the name of a painter of the fence."""
+    if value not in fence:
+        raise UnknownName(value)
 
 
 def integer_of(word):

@@ -1,7 +1,7 @@
 """What happens along a fence: who stops where, when and because of whom."""
 
-from paintposts.checks import check_day, check_day_or_none, check_post, is_between, is_integer
-from paintposts.errors import InvalidCount, UnknownName
+from paintposts.checks import check_day, check_day_or_none, check_name, check_post, is_between, is_integer
+from paintposts.errors import InvalidCount
 from paintposts.limits import MAX_DAYS
 from paintposts.meetings import first_block
 
@@ -59,8 +59,7 @@ class History:
         return len(self._stopped)
 
     def __getitem__(self, at):
-        if at not in self._fence:
-            raise UnknownName(at)
+        check_name(self._fence, at)
         return self._by_name[at]
 
     def __iter__(self):

@@ -43,12 +43,12 @@ def runs_of(counts):
 
 def without(runs, post, left):
     """The posts from this one on to one side that are not in a set."""
-    return [(1, post, -1 if left else 1, None)] + negative(runs)
+    return [(1, post, -1 if left else 1, None)] + weighted(runs, -1)
 
 
-def negative(runs):
-    """The same runs, to take their posts out of a set that has them all."""
-    return [(-weight, post, stride, many) for weight, post, stride, many in runs]
+def weighted(runs, factor):
+    """The same runs with other weights, negative ones to take their posts out of a set that has them all."""
+    return [(weight * factor, post, stride, many) for weight, post, stride, many in runs]
 
 
 def mirrored(runs):

@@ -1,7 +1,8 @@
 import random
 import unittest
 
-from paintposts.runs import count_between, counts_by, far_post, mirrored, negative, painted_counts, painted_runs, post_at, without
+from paintposts.runs import (
+    count_between, counts_by, far_post, mirrored, painted_counts, painted_runs, post_at, weighted, without)
 from tests.samples import ANN, BIG, BOB, CY
 from tests.walks import F
 
@@ -35,7 +36,7 @@ class RunsTest(unittest.TestCase):
             last = first + chance.randint(-4, 60)
             posts = [post for post in range(first, last + 1) if has_post(run, post)]
             self.assertEqual(count_between([run], first, last), len(posts), (run, first, last))
-            self.assertEqual(count_between(negative([run]), first, last), -len(posts))
+            self.assertEqual(count_between(weighted([run], -2), first, last), -2 * len(posts))
             self.assertEqual(count_between(mirrored([run]), -last, -first), len(posts))
             self.assertEqual(count_between(without([run], first, False), first, last), max(0, last - first + 1) - len(posts))
 
