@@ -10,10 +10,9 @@ from paintposts.meetings import first_block
 
 def blocked_by(fence, name):
     """The list of this name, its blocker, the blocker of that one and so on, without a name twice."""
-    check_name(fence, name)
     told = History(fence)
-    found = [name]
     stop = told[name][2]
+    found = [name]
     while stop is not None and stop[2] not in found:
         found.append(stop[2])
         stop = told[stop[2]][2]
@@ -22,7 +21,6 @@ def blocked_by(fence, name):
 
 def spared(fence, name):
     """The list of (other, post, day): the first post that this painter paints only because the other one stopped."""
-    check_name(fence, name)
     told = History(fence)
     painter, count = fence[name], told[name][1]
     place = fence.names.index(name)

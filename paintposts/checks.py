@@ -43,6 +43,20 @@ def check_count(value):
         raise InvalidCount(value)
 
 
+def check_interval(first, last, day):
+    """Raises the error of the first argument that is no post, no post, or neither a day nor None."""
+    check_post(first)
+    check_post(last)
+    check_day_or_none(day)
+
+
+def check_place(post, index, day):
+    """Raises the error of the first argument that is no post, no index, or neither a day nor None."""
+    check_post(post)
+    check_count(index)
+    check_day_or_none(day)
+
+
 def check_name(fence, value):
     """Raises UnknownName for any value that is not the name of a painter of the fence."""
     if value not in fence:

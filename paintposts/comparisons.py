@@ -1,37 +1,38 @@
 """Two fences, compared post by post."""
 
-from paintposts.checks import check_count, check_day_or_none, check_post
+from paintposts.checks import check_day_or_none, check_interval, check_place, check_post
 from paintposts.crossings import crossing
 from paintposts.runs import count_between, counts_by, painted_counts, post_at, runs_of, weighted
 
 
 def common_between(one, other, first, last, *, day=None):
     """How many posts from first to last are painted in both fences by this day."""
-    _check_interval(first, last, day)
+    check_interval(first, last, day)
     return count_between(_common_runs(one, other, day), first, last)
 
 
 def only_between(one, other, first, last, *, day=None):
     """How many posts from first to last are painted by this day in one, but not in other."""
-    _check_interval(first, last, day)
+    check_interval(first, last, day)
     return count_between(_only_runs(one, other, day), first, last)
 
 
 def common_from(one, other, post, index, *, day=None, left=False):
     """Of the posts from this one on to the right (left), the one with this index that both have painted by this day."""
-    _check_place(post, index, day)
+    check_place(post, index, day)
     return post_at(_common_runs(one, other, day), post, index, left)
 
 
 def only_from(one, other, post, index, *, day=None, left=False):
     """Likewise of the posts that are painted by this day in one, but not in other."""
-    _check_place(post, index, day)
+    check_place(post, index, day)
     return post_at(_only_runs(one, other, day), post, index, left)
 
 
 def first_difference(one, other, post, *, day=None, left=False):
     """The first post from this one on to the right (left) that is painted by this day in exactly one fence, or None."""
-    _check_place(post, 0, day)
+    check_post(post)
+    check_day_or_none(day)
     return post_at(_different_runs(one, other, day), post, 0, left)
 
 
@@ -39,18 +40,6 @@ def first_day_apart(one, other):
     """The least day by which the painted posts of the fences are not the same, or None."""
     counts, other_counts = painted_counts(one), painted_counts(other)
     return min(_days_ahead(counts, other_counts) + _days_ahead(other_counts, counts), default=None)
-
-
-def _check_interval(first, last, day):
-    check_post(first)
-    check_post(last)
-    check_day_or_none(day)
-
-
-def _check_place(post, index, day):
-    check_post(post)
-    check_count(index)
-    check_day_or_none(day)
 
 
 def _counts_of(one, other, day):

@@ -7,11 +7,11 @@ to 1 if the post is in the set, and to 0 if it is not; so a run with a negative 
 
 from paintposts.history import History
 
-# A set without an end has a post among as many neighbours as these, wherever its finite runs have ended. Here is why:
-# the sets of this package are unions of runs, with strides up to 10 ** 36, and of what at most 40 runs leave of a run
-# with a stride up to 10 ** 18. Whatever way 40 progressions are laid, they cover all numbers if they cover 2 ** 40
-# neighbours (Crittenden and Vanden Eynden, 1969), so that they leave none or one of so many of the other run.
-WINDOW = 10 ** 36 * 2 ** 40
+# Wherever its finite runs have ended, a set without an end has a post among so many neighbours. Here is why: the sets
+# of this package are unions of runs with strides up to 10 ** 36, and of what at most 40 runs leave of a run with a
+# stride up to 10 ** 18. If 40 progressions cover 2 ** 40 numbers that follow each other, they cover all (Crittenden and
+# Vanden Eynden, 1969). So they leave none of the other run, or one of each 2 ** 40 of its posts.
+WINDOW = 10 ** 36
 
 
 def painted_counts(fence):
@@ -89,9 +89,8 @@ def _many_between(run, first, last):
 
 
 def _post_to_the_right(runs, post, index):
-    far = far_post(runs, post)
-    is_endless = count_between(runs, far + 1, far + WINDOW) > 0
-    low, high = post, far + (index + 1) * WINDOW if is_endless else far
+    # Beyond the far post, each window has a post, or none has one.
+    low, high = post, far_post(runs, post) + (index + 1) * WINDOW
     if count_between(runs, post, high) <= index:
         return None
     while low < high:

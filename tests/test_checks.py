@@ -1,8 +1,10 @@
 import unittest
 
-from paintposts.checks import check_count, check_day, check_day_or_none, check_post, integer_of, is_between, is_integer
-from paintposts.errors import InvalidCount, InvalidDay, InvalidPost
-from tests.samples import BIG, NO_INTEGERS
+from paintposts.checks import (
+    check_count, check_day, check_day_or_none, check_name, check_post, integer_of, is_between, is_integer)
+from paintposts.errors import InvalidCount, InvalidDay, InvalidPost, UnknownName
+from paintposts.fences import Fence
+from tests.samples import ANN, BIG, BOB, NO_INTEGERS
 
 
 class ChecksTest(unittest.TestCase):
@@ -35,6 +37,14 @@ class ChecksTest(unittest.TestCase):
             if value is not None:
                 with self.assertRaises(InvalidDay):
                     check_day_or_none(value)
+
+    def test_names(self):
+        fence = Fence(ANN, BOB)
+        self.assertEqual([check_name(fence, "ann"), check_name(fence, "bob")], [None, None])
+        for value in NO_INTEGERS[:5] + ["cy", "an", ["ann"], {"ann": 1}, 0]:
+            with self.assertRaises(UnknownName) as caught:
+                check_name(fence, value)
+            self.assertIs(caught.exception.value, value)
 
     def test_words_of_integers(self):
         for number in (0, 7, 10, -1, -10, BIG - 1, 1 - BIG, 10 ** 79):

@@ -277,12 +277,22 @@ class GreatPairsTest(unittest.TestCase):
                     self.assertLessEqual(between(one, other, 0, BIG), index)
         self.assertEqual([first_day_apart(one, other), first_difference(one, other, -BIG)], [0, -10 ** 30])
 
+    def test_the_widest_distances(self):
+        one, other = Fence(Painter("a", 0, 0, 10 ** 18)), Fence(Painter("b", 9, 0, 10 ** 18 - 1))
+        distance = 10 ** 18 * (10 ** 18 - 1)
+        self.assertEqual([common_from(one, other, 1, index) for index in (0, 1, BIG)], [distance, 2 * distance, (BIG + 1) * distance])
+        self.assertEqual([common_from(one, other, -1, 0), common_from(one, other, -1, 0, left=True)], [0, None])
+        self.assertEqual(common_between(one, other, 1, BIG), BIG // distance)
+
     def test_full_but_for_little(self):
         # What the halves leave of all posts, or of each third one, is one post in 2 ** 39.
         halves = Fence(*(Painter(name_of(place), 0, 2 ** place, 2 ** (place + 1)) for place in range(39)))
         one = Fence(Painter("a", 5, 0, 1))
         self.assertEqual([only_from(one, halves, 1, index) for index in (0, BIG)], [2 ** 39, (BIG + 1) * 2 ** 39])
         self.assertEqual([first_difference(one, halves, 1), first_difference(one, halves, 1, left=True)], [2 ** 39, 0])
+        wide = Fence(Painter("a", 10 ** 30, 0, 10 ** 18 - 1))
+        self.assertEqual([only_from(wide, halves, 1, index) for index in (0, BIG)],
+                         [2 ** 39 * (10 ** 18 - 1), (BIG + 1) * 2 ** 39 * (10 ** 18 - 1)])
         third = Fence(Painter("a", 10 ** 30, 0, 3 * 10 ** 9))
         self.assertEqual(only_from(third, halves, 1, 0), 3 * 5 ** 9 * 2 ** 39)
         full = halves + Painter("last", 0, 0, 2 ** 39)
