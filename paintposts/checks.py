@@ -1,6 +1,6 @@
-"""Checks of arguments, and the reading of integers, for all modules of the package."""
+"""Checks of arguments and values, and the reading of lines and integers, for all modules of the package."""
 
-from paintposts.errors import InvalidCount, InvalidDay, InvalidPost, UnknownName
+from paintposts.errors import InvalidCount, InvalidDay, InvalidPost, ParseError, UnknownName
 
 # Two factors, because the language subset has no exponent above 64.
 MAX_ARGUMENT = 10 ** 40 * 10 ** 40
@@ -63,6 +63,19 @@ def check_name(fence, value):
         raise UnknownName(value)
 
 
+def is_same(value, wanted):
+    """True if any value is the wanted one, which is made of tuples, integers, strings and None."""
+    if isinstance(wanted, tuple):
+        if not isinstance(value, tuple) or len(value) != len(wanted):
+            return False
+        return all([is_same(part, wanted_part) for part, wanted_part in zip(value, wanted)])
+    if isinstance(wanted, int):
+        return is_integer(value) and value == wanted
+    if isinstance(wanted, str):
+        return isinstance(value, str) and value == wanted
+    return value is None
+
+
 def integer_of(word):
     """The integer that a string writes, or None if it is not the text of one."""
     digits = word.removeprefix("-")
@@ -72,3 +85,17 @@ def integer_of(word):
     number = int(word)
     # Each integer has one text only: this rejects leading zeros and "-0".
     return number if str(number) == word else None
+
+
+def natural_of(word):
+    """The integer from 0 on that a string writes, or None if it is not the text of one."""
+    number = integer_of(word)
+    return None if number is None or number < 0 else number
+
+
+def lines_of(text):
+    """The list of the lines of a text; ParseError(0) for any value that is not a string."""
+    if not isinstance(text, str):
+        raise ParseError(0)
+    # The empty string has no lines, but would be split into an empty one.
+    return text.split("\n") if text != "" else []

@@ -4,7 +4,7 @@
 def common_numbers(one, other):
     """The numbers, on the way of one, of the common posts: (first, last, step), last None without end; or None."""
     size = abs(other.stride)
-    divisor, factor = _divisor_and_factor(one.stride % size, size)
+    divisor, factor = divisor_and_factor(one.stride % size, size)
     gap = other.post - one.post
     if gap % divisor != 0:
         return None
@@ -50,7 +50,7 @@ def crossing(one, other, *, count=None, other_count=None, lead=None):
     return first + least * step, step, None if most is None else most - least + 1
 
 
-def _divisor_and_factor(number, modulus):
+def divisor_and_factor(number, modulus):
     """The greatest common divisor, and a factor with number * factor equal to it modulo the modulus."""
     divisor, factor = number, 1
     rest, rest_factor = modulus, 0

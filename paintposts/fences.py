@@ -1,6 +1,6 @@
 """Fences: lists of painters with different names."""
 
-from paintposts.checks import is_between
+from paintposts.checks import is_between, lines_of
 from paintposts.errors import BadOrder, DuplicateName, InvalidCount, InvalidFence, ParseError, TooMany, UnknownName
 from paintposts.limits import MAX_PAINTERS
 from paintposts.painters import Painter
@@ -101,12 +101,8 @@ class Fence:
     @classmethod
     def read(cls, text):
         """The fence that a text writes; ParseError with the index of the first line that writes no painter."""
-        if not isinstance(text, str):
-            raise ParseError(0)
-        # The empty string has no lines, but would be split into an empty one.
-        lines = text.split("\n") if text != "" else []
         found = []
-        for index, line in enumerate(lines):
+        for index, line in enumerate(lines_of(text)):
             try:
                 found.append(Painter.read(line))
             except ParseError:

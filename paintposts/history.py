@@ -1,6 +1,7 @@
 """What happens along a fence: who stops where, when and because of whom."""
 
-from paintposts.checks import check_day, check_day_or_none, check_name, check_post, is_between, is_integer
+from paintposts.blocks import comers, rows_by
+from paintposts.checks import check_day, check_day_or_none, check_name, check_post, is_between, is_same
 from paintposts.errors import InvalidCount
 from paintposts.limits import MAX_DAYS
 from paintposts.meetings import first_block
@@ -13,7 +14,7 @@ def days(fence, day, count):
         raise InvalidCount(count)
     rows = History(fence).rows
     for now in range(day, day + count):
-        yield _comers(fence, rows, now)
+        yield comers(fence.painters, rows, now)
 
 
 def history(fence):
@@ -81,7 +82,7 @@ class History:
 def check_history(fence, value):
     """True if any value is a list or a tuple of the rows of the history of the fence."""
     given = tuple(value) if isinstance(value, list) else value
-    return _is_same(given, _rows_of(fence))
+    return is_same(given, _rows_of(fence))
 
 
 def painting(told, post):
@@ -93,44 +94,9 @@ def painting(told, post):
     return None
 
 
-def _comers(fence, rows, now):
-    """The list of (name, post, is_painting) of all painters that come to a post on this day."""
-    found = []
-    for painter, (name, count, _) in zip(fence.painters, rows):
-        number = now - painter.day
-        if number >= 0 and (count is None or number <= count):
-            found.append((name, painter.post + number * painter.stride, count is None or number < count))
-    return found
-
-
 def _rows_of(fence):
     painters = fence.painters
-    stopped = _find_stopped(painters)
-    rows = []
-    for place, painter in enumerate(painters):
-        if place in stopped:
-            count, blocker = stopped[place]
-            stop = (painter.day + count, painter.post + count * painter.stride, painters[blocker].name)
-            rows.append((painter.name, count, stop))
-        else:
-            rows.append((painter.name, None, None))
-    return tuple(rows)
-
-
-def _find_stopped(painters):
-    """The painters that stop, by their places in the list: {place: (count, place of the blocker)}."""
-    places = range(len(painters))
-    blocks = [[_block(painters, one, two, None) for two in places] for one in places]
-    stopped = {}
-    while True:
-        found = _earliest_block(painters, blocks, stopped)
-        if found is None:
-            return stopped
-        _, place, count, blocker = found
-        stopped[place] = (count, blocker)
-        for other in places:
-            if other not in stopped:
-                blocks[other][place] = _block(painters, other, place, count)
+    return rows_by(painters, lambda place, other, count: _block(painters, place, other, count))
 
 
 def _block(painters, place, other, count):
@@ -138,30 +104,3 @@ def _block(painters, place, other, count):
     if place == other:
         return None
     return first_block(painters[place], painters[other], count=count, is_earlier=other < place)
-
-
-def _earliest_block(painters, blocks, stopped):
-    """The first block of all, as (day, place, count, place of the blocker), or None.
-
-    Painters that are not known to stop are taken as endless here, so that a block may be found that never happens.
-    But the first one of all happens, on equal days that of the earliest place: had its blocker stopped before, this
-    stop would have been found before. No other painter blocks at the same post, because only one paints it.
-    """
-    found = [
-        (painters[place].day + count, place, count, other)
-        for place, row in enumerate(blocks) if place not in stopped
-        for other, count in enumerate(row) if count is not None]
-    return min(found, default=None)
-
-
-def _is_same(value, wanted):
-    """True if any value is the wanted one, which is made of tuples, integers, strings and None."""
-    if isinstance(wanted, tuple):
-        if not isinstance(value, tuple) or len(value) != len(wanted):
-            return False
-        return all([_is_same(part, wanted_part) for part, wanted_part in zip(value, wanted)])
-    if isinstance(wanted, int):
-        return is_integer(value) and value == wanted
-    if isinstance(wanted, str):
-        return isinstance(value, str) and value == wanted
-    return value is None
