@@ -46,6 +46,6 @@ def first_between(low, high):
         exchanged.append((high_divisor, rise, high_slope))
         low, high = exchanged[-1], (low_divisor, low_divisor - fall, low_slope)
     if found is not None:
-        for slope, start, divisor in reversed(exchanged):
+        for slope, start, divisor in exchanged[::-1]:
             found = -(-(slope * found + start) // divisor)
     return found

@@ -67,6 +67,16 @@ def count_between(runs, first, last):
     return sum([run[0] * _many_between(run, first, last) for run in runs])
 
 
+def numbers_between(run, first, last):
+    """The numbers, along the run, of its first and its last post from first to last; if it has none, last is less."""
+    _, post, stride, many = run
+    if stride < 0:
+        post, stride, first, last = -post, -stride, -last, -first
+    least = max(0, -((post - first) // stride))
+    most = (last - post) // stride
+    return least, most if many is None else min(most, many - 1)
+
+
 def post_at(runs, post, index, left):
     """Of the posts of the set, from this one on to the right (left), the one with this index, or None."""
     if not left:
@@ -77,14 +87,7 @@ def post_at(runs, post, index, left):
 
 def _many_between(run, first, last):
     """How many posts from first to last the run has, whatever its weight."""
-    _, post, stride, many = run
-    if stride < 0:
-        post, stride, first, last = -post, -stride, -last, -first
-    # The numbers, along the run, of its first and last post in between.
-    least = max(0, -((post - first) // stride))
-    most = (last - post) // stride
-    if many is not None:
-        most = min(most, many - 1)
+    least, most = numbers_between(run, first, last)
     return max(0, most - least + 1)
 
 

@@ -5,6 +5,8 @@ import builtins
 import pathlib
 import unittest
 
+from paintposts import errors
+
 PACKAGE = pathlib.Path(__file__).resolve().parent.parent / "paintposts"
 
 BUILTINS = set("""
@@ -122,3 +124,38 @@ class LanguageTest(unittest.TestCase):
                         self.assertNotIsInstance(value, ast.GeneratorExp, place)
             if isinstance(node, ast.Attribute):
                 self.assertNotEqual(node.attr, "sort", place)
+
+    def test_reversed_takes_plain_values(self):
+        # L5: a class of the package has __getitem__.
+        for place, node in nodes():
+            if isinstance(node, ast.Call) and isinstance(node.func, ast.Name) and node.func.id == "reversed":
+                value = node.args[0]
+                is_call = isinstance(value, ast.Call) and getattr(value.func, "id", None) in ("list", "tuple", "sorted", "range")
+                self.assertTrue(is_call or isinstance(value, (ast.List, ast.Tuple)), place)
+
+    def test_finally_only_puts_things_back(self):
+        # L6: assignments of names and attributes alone.
+        for place, node in nodes():
+            for row in getattr(node, "finalbody", []):
+                self.assertIsInstance(row, ast.Assign, place)
+                for inner in ast.walk(row):
+                    self.assertIsInstance(inner, (ast.Assign, ast.Tuple, ast.Name, ast.Attribute, ast.expr_context), place)
+
+    def test_handlers_name_own_errors(self):
+        # L19: none of Python's own errors is caught here.
+        own = {path for path in dir(errors) if not path.startswith("_")}
+        for place, node in nodes():
+            if isinstance(node, ast.ExceptHandler):
+                named = node.type.elts if isinstance(node.type, ast.Tuple) else [node.type]
+                self.assertLessEqual({name.id for name in named}, own, place)
+
+    def test_super_is_asked_for_a_method_at_once(self):
+        # L5: super() stands only as super().told(..), without arguments of its own.
+        supers, asked = 0, 0
+        for place, node in nodes():
+            if isinstance(node, ast.Call) and getattr(node.func, "id", None) == "super":
+                self.assertEqual(node.args + node.keywords, [], place)
+                supers += 1
+            if isinstance(node, ast.Call) and isinstance(node.func, ast.Attribute) and isinstance(node.func.value, ast.Call):
+                asked += getattr(node.func.value.func, "id", None) == "super"
+        self.assertEqual(supers, asked)

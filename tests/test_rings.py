@@ -183,7 +183,7 @@ class RingDaysTest(unittest.TestCase):
         self.assertEqual([type(rows), type(rows[0])], [list, tuple])
         rows.clear()
         self.assertEqual(len(next(ring_days(RING, 0, 1))), 2)
-        self.assertEqual(list(ring_days(RING, BIG, 2)), [[], []])
+        self.assertEqual([list(ring_days(RING, BIG, 2)), list(ring_days(RING, 0, 0))], [[[], []], []])
 
     def test_wrong_arguments(self):
         wrong = [("day", InvalidDay, NO_DAYS), ("count", InvalidCount, NO_COUNTS + [1001, BIG])]
